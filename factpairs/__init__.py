@@ -1,0 +1,1 @@
+"""Pairings that stay whatever people would rather."""

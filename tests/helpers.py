@@ -1,0 +1,172 @@
+"""What the tests share: values of any kind, books by chance, and what a going through of everything tells.
+
+Nothing here uses the package but to make and to ask for texts: all is found again from the document's words.
+"""
+
+import random
+from itertools import permutations
+
+from factpairs.books import Book
+from factpairs.errors import PairError
+
+TEXT = "\n".join([
+    "ones ann bea",
+    "others cy dan",
+    "ann rather cy dan nobody",
+    "bea rather dan nobody",
+    "bea rather cy nobody",
+    "cy rather ann nobody",
+    "cy rather bea nobody",
+    "dan rather ann nobody",
+    "dan rather bea nobody",
+])
+
+TWELVE_ONES = tuple("a" + letter for letter in "abcdefghijkl")
+TWELVE_OTHERS = tuple("b" + letter for letter in "abcdefghijkl")
+
+
+def text_of(ones, others, sayings=()):
+    """The text of a book, as the document tells it."""
+    lines = ["ones " + " ".join(ones), "others " + " ".join(others)]
+    for person, row in sayings:
+        lines.append(person + " rather " + " ".join(choice or "nobody" for choice in row))
+    return "\n".join(lines)
+
+
+def large(sayings=()):
+    """The Book of twelve and twelve people."""
+    return Book(text_of(TWELVE_ONES, TWELVE_OTHERS, sayings))
+
+
+def nested(value, deep):
+    """The value within so many tuples and lists."""
+    for level in range(deep):
+        value = (value,) if level % 2 else [value]
+    return value
+
+
+def any_values():
+    """Values of all kinds that can be handed in, none of which is a person, a choice, a row, a list or pairs."""
+    book = Book(TEXT)
+    return [
+        0, 1, -1, 7, 123456789012, True, False, None,
+        "nobody", "ones", "rather", "Ann", "ann ", " ", "annbea", "anna", "ann cy", "\n", "0", "1",
+        [], {}, (None,), (True,), (0,), (1, 2), ((),), ([],), [()], ("",), ("ann",), ["ann"], ("ann", 1),
+        {"ann": 1}, {1: {}}, [1, [2]], ["", "cy", "dan"], ["ann", "cy", "dan"], ["cy", "dan", ""], ("ann", ["cy"], {}),
+        [["ann", "cy"]], (["ann", "cy"],), ("ann", "cy"), (("ann",),), (("ann", "cy", "dan"),), ((), ()), ({}, {}),
+        nested("ann", 30), nested(0, 30), nested({"a": ()}, 28),
+        book, [book], (book, book), {"book": book}, PairError(1), (PairError("ann"), "cy"),
+    ]
+
+
+def choices_of(book, person):
+    """The choices of a person, by the sides alone."""
+    return (book.others if person in book.ones else book.ones) + ("",)
+
+
+def sure(book):
+    """All (person, x, y) that are sure, found by following the sayings."""
+    found = set()
+    for person in book.ones + book.others:
+        direct = {}
+        for speaker, row in book.sayings:
+            if speaker == person:
+                for first, second in zip(row, row[1:]):
+                    direct.setdefault(first, set()).add(second)
+        for first in direct:
+            reached, waiting = set(), [first]
+            while waiting:
+                for second in direct.get(waiting.pop(), ()):
+                    if second not in reached:
+                        reached.add(second)
+                        waiting.append(second)
+            found.update((person, first, second) for second in reached)
+    return found
+
+
+def lists_of(book, person):
+    """All lists of a person that keep the book, in the sequence of their places."""
+    known = {(x, y) for speaker, x, y in sure(book) if speaker == person}
+    found = []
+    for row in permutations(choices_of(book, person)):
+        if all(row.index(x) < row.index(y) for x, y in known):
+            found.append(row)
+    return found
+
+
+def pairings(ones, others):
+    """All pairings of these people, each as an ascending tuple of pairs."""
+    if not ones:
+        return [()]
+    found = pairings(ones[1:], others)
+    for other in others:
+        rest = tuple(name for name in others if name != other)
+        found = found + [((ones[0], other),) + pairs for pairs in pairings(ones[1:], rest)]
+    return [tuple(sorted(pairs)) for pairs in found]
+
+
+def partner(pairs, person):
+    """Whom a person has in a pairing, "" for nobody."""
+    for one, other in pairs:
+        if person == one:
+            return other
+        if person == other:
+            return one
+    return ""
+
+
+def leavers(book, lists, pairs):
+    """Those who leave a pairing by lists, as the document tells them."""
+    liked = dict(zip(book.ones + book.others, lists))
+
+    def rather(person, choice):
+        return liked[person].index(choice) < liked[person].index(partner(pairs, person))
+
+    alone = [(person,) for person in book.ones + book.others if rather(person, "")]
+    both = [(one, other) for one in book.ones for other in book.others
+            if (one, other) not in pairs and rather(one, other) and rather(other, one)]
+    return tuple(alone + both)
+
+
+def steady(book, lists):
+    """All pairings that are steady by these lists."""
+    return [pairs for pairs in pairings(book.ones, book.others) if leavers(book, lists, pairs) == ()]
+
+
+def chance_book(seed, most=3, sayings=8):
+    """A Book of up to so many people on a side, with up to so many sayings, by a seed."""
+    chance = random.Random(seed)
+    names = ["a", "b", "c", "x", "y", "z", "k", "m"]
+    chance.shuffle(names)
+    many = chance.randint(1, most)
+    ones, others = names[:many], names[many:many + chance.randint(1, most)]
+    return with_chance(Book(text_of(ones, others)), seed, sayings)
+
+
+def with_chance(book, seed, sayings=8):
+    """The Book with up to so many sayings more, by a seed."""
+    chance = random.Random(seed)
+    for _ in range(chance.randint(0, sayings)):
+        person = chance.choice(book.persons)
+        row = list(choices_of(book, person))
+        chance.shuffle(row)
+        try:
+            book = book.said(person, tuple(row[:chance.randint(2, len(row))]))
+        except PairError:
+            continue
+    return book
+
+
+def chance_lists(book, seed):
+    """Lists of a book of few people, by a seed."""
+    chance = random.Random(seed)
+    return tuple(chance.choice(lists_of(book, person)) for person in book.ones + book.others)
+
+
+def kinds(value):
+    """A value with the kinds of all that it holds, so that True is not 1 and a list is no tuple."""
+    if isinstance(value, (list, tuple)):
+        return value.__class__.__name__, [kinds(part) for part in value]
+    if isinstance(value, dict):
+        return "dict", [(kinds(key), kinds(part)) for key, part in value.items()]
+    return value.__class__.__name__, value

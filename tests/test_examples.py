@@ -1,0 +1,37 @@
+"""The examples of points 4 and 5, as they stand in the document."""
+
+import doctest
+import unittest
+
+EXAMPLES = r"""
+>>> from factpairs.books import Book
+>>> text = 'ones ann bea\nothers cy dan\nann rather cy dan nobody\nbea rather dan nobody\nbea rather cy nobody\ncy rather ann nobody\ncy rather bea nobody\ndan rather ann nobody\ndan rather bea nobody'
+>>> book = Book(text)
+>>> [book.persons, book['ann'], book.sayings[1], len(book), ('ann', 'cy', '') in book, ('bea', 'dan', 'cy') in book]
+[('ann', 'bea', 'cy', 'dan'), ('cy', 'dan', ''), ('bea', ('dan', '')), 7, True, False]
+>>> more = book.said('bea', ('dan', 'cy'))
+>>> [more.ahead('bea', ''), book <= more, (book & more) <= book, more.places('bea', 'cy'), book.places('bea', 'cy')]
+[('cy', 'dan'), True, True, (1, 1), (0, 1)]
+
+>>> from factpairs.lists import how_many, is_list, leaving, nth, usual
+>>> [how_many(book, 'ann'), how_many(book, 'bea'), nth(book, 'bea', 1), is_list(book, 'bea', ('', 'cy', 'dan'))]
+[1, 2, ('dan', 'cy', ''), False]
+>>> lists = (nth(book, 'ann', 0), nth(book, 'bea', 0), nth(book, 'cy', 0), nth(book, 'dan', 0))
+>>> [lists[1:3], usual(book, lists), leaving(book, lists, (('ann', 'dan'), ('bea', 'cy')))]
+[(('cy', 'dan', ''), ('ann', 'bea', '')), (('ann', 'cy'), ('bea', 'dan')), (('ann', 'cy'),)]
+"""
+
+
+class ExamplesTest(unittest.TestCase):
+
+    def test_examples(self):
+        parser, runner = doctest.DocTestParser(), doctest.DocTestRunner(verbose=False)
+        test = parser.get_doctest(EXAMPLES, {}, "DOC.md", "DOC.md", 0)
+        told = []
+        result = runner.run(test, out=told.append)
+        self.assertEqual((result.failed, "".join(told)), (0, ""))
+        self.assertEqual(result.attempted, 10)
+
+
+if __name__ == "__main__":
+    unittest.main()
