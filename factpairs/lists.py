@@ -3,8 +3,9 @@
 from factpairs.books import refuse_no_person
 from factpairs.errors import BadLists, BadPairs, NoList
 from factpairs.orders import keeps
+from factpairs.pairs import are_pairs, pairs_of, partners_of
 from factpairs.texts import is_row, spots_of
-from factpairs.values import are_pairs, is_number_below
+from factpairs.values import is_number_below
 
 
 def is_list(book, person, value):
@@ -80,14 +81,16 @@ def leaving(book, lists, pairs):
     listed = lists_of(book, lists)
     if not are_pairs(pairs, book.ones, book.others):
         raise BadPairs(pairs)
-    held = {person: "" for person in book.persons}
-    for one, other in pairs:
-        held[one] = other
-        held[other] = one
-    leave = [(person,) for person in book.persons if prefers(listed[person], "", held[person])]
+    held = partners_of(book.persons, pairs)
+    return leavers(book, {person: row[:row.index(held[person])] for person, row in listed.items()})
+
+
+def leavers(book, liked):
+    """Those who leave a pairing, if each person would rather have those that `liked` tells than whom they have."""
+    leave = [(person,) for person in book.persons if "" in liked[person]]
     for one in book.ones:
         for other in book.others:
-            if prefers(listed[one], other, held[one]) and prefers(listed[other], one, held[other]):
+            if other in liked[one] and one in liked[other]:
                 leave.append((one, other))
     return tuple(leave)
 
@@ -110,9 +113,8 @@ def usual(book, lists):
             held[choice] = one
         else:
             free.append(one)
-    found = {held[other]: other for other in book.others if held[other] != ""}
-    names = sorted([str(name) for name in found])
-    return tuple([(name, found[name]) for name in names])
+    partners = partners_of(book.ones, [(held[other], other) for other in book.others if held[other] != ""])
+    return pairs_of(book.ones, partners)
 
 
 def lists_of(book, lists):

@@ -55,6 +55,14 @@ def keeps(order, spots):
     return True
 
 
+def some_row(order):
+    """The spots in one of the sequences that keep the order."""
+    # Whoever is ahead of somebody has fewer ahead, so the numbers of those ahead ascend in a sequence that keeps it.
+    many = [len(spots_in(mask)) for mask in order]
+    spots = list(range(len(order)))
+    return [at for ahead in spots for at in spots if many[at] == ahead]
+
+
 def shared(order, other):
     """The order of what is sure in both."""
     return tuple([mask & more for mask, more in zip(order, other)])

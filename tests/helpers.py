@@ -4,10 +4,12 @@ Nothing here uses the package but to make and to ask for texts: all is found aga
 """
 
 import random
+import unittest
 from itertools import permutations
 
 from factpairs.books import Book
 from factpairs.errors import PairError
+from factpairs.pairings import Pairing
 
 TEXT = "\n".join([
     "ones ann bea",
@@ -56,6 +58,7 @@ def any_values():
         [["ann", "cy"]], (["ann", "cy"],), ("ann", "cy"), (("ann",),), (("ann", "cy", "dan"),), ((), ()), ({}, {}),
         nested("ann", 30), nested(0, 30), nested({"a": ()}, 28),
         book, [book], (book, book), {"book": book}, PairError(1), (PairError("ann"), "cy"),
+        Pairing(book, ()), (Pairing(book, (("ann", "cy"),)), "cy"), [Pairing(book, (("bea", "cy"),))],
     ]
 
 
@@ -133,6 +136,45 @@ def steady(book, lists):
     return [pairs for pairs in pairings(book.ones, book.others) if leavers(book, lists, pairs) == ()]
 
 
+def is_sure(known, book, pairs):
+    """Whether a pairing is surely steady, as the document tells when it is; known is what is sure of the book."""
+    held = {person: partner(pairs, person) for person in book.ones + book.others}
+    if any(held[person] and (person, held[person], "") not in known for person in held):
+        return False
+    return all((one, held[one], other) in known or (other, held[other], one) in known
+               for one in book.ones for other in book.others if held[one] != other)
+
+
+def sure_pairings(book):
+    """All pairings of a book of few people that are surely steady, ascending."""
+    known = sure(book)
+    return sorted(pairs for pairs in pairings(book.ones, book.others) if is_sure(known, book, pairs))
+
+
+def refusing(known, book, pairs):
+    """All who surely leave a pairing, so that it is steady by no lists."""
+    held = {person: partner(pairs, person) for person in book.ones + book.others}
+    alone = [(person,) for person in held if (person, "", held[person]) in known]
+    both = [(one, other) for one in book.ones for other in book.others
+            if (one, other, held[one]) in known and (other, one, held[other]) in known]
+    return alone + both
+
+
+def turned_about(pairs):
+    """Pairs of the ones and the others as pairs of the others and the ones."""
+    return tuple(sorted((other, one) for one, other in pairs))
+
+
+def bent(value):
+    """The value with one part of another kind, or with a word that nobody has, at any depth."""
+    found = [None, 0, True, "eve", [value], (value,), {}, Book(TEXT)]
+    if isinstance(value, tuple):
+        found.extend([list(value), value + (value,), value + (None,)])
+        for at, part in enumerate(value):
+            found.extend(value[:at] + (other,) + value[at + 1:] for other in bent(part))
+    return found
+
+
 def chance_book(seed, most=3, sayings=8):
     """A Book of up to so many people on a side, with up to so many sayings, by a seed."""
     chance = random.Random(seed)
@@ -141,6 +183,52 @@ def chance_book(seed, most=3, sayings=8):
     many = chance.randint(1, most)
     ones, others = names[:many], names[many:many + chance.randint(1, most)]
     return with_chance(Book(text_of(ones, others)), seed, sayings)
+
+
+def telling_book(seed, most=3):
+    """A Book of up to so many people on a side who told nearly all, so that often some pairings are surely steady."""
+    chance = random.Random(seed)
+    ones, others = ["d", "b", "c", "a"][:chance.randint(1, most)], ["y", "z", "x", "w"][:chance.randint(1, most)]
+    turning = chance.random() < 0.7
+    if turning:
+        ones, others = ones[:len(others)], others[:len(ones)]
+    sayings = []
+    for at, person in enumerate(ones + others):
+        row = list(others if person in ones else ones)
+        if not turning or chance.random() < 0.04:
+            chance.shuffle(row)
+        elif person in ones:
+            row = row[at:] + row[:at]
+        else:
+            # Whoever likes one of the others more is liked less there: that leaves many pairings steady.
+            at = (at - len(ones) + 1) % len(row)
+            row = row[at:] + row[:at]
+        row.insert(len(row) - chance.choice([0] * 14 + [1]), "")
+        if chance.random() < 0.12 and len(row) > 2:
+            at = chance.randrange(len(row) - 1)
+            sayings.extend([(person, tuple(row[:at] + row[at + 1:])), (person, tuple(row[:at + 1] + row[at + 2:]))])
+        else:
+            sayings.append((person, tuple(row)))
+    chance.shuffle(sayings)
+    return Book(text_of(ones, others, sayings))
+
+
+def rings(many):
+    """A Book of so many rings of two and two people, in each of whom two pairings are surely steady, and as many people.
+
+    Those of unlike rings do not want one another.
+    """
+    ones, others, sayings = [], [], []
+    for letter in "abcdefghijkl"[:many]:
+        first, second, third, fourth = [letter + name for name in "pqrs"]
+        ones, others = ones + [first, second], others + [third, fourth]
+        sayings.extend([(first, (third, fourth, "")), (second, (fourth, third, "")),
+                        (third, (second, first, "")), (fourth, (first, second, ""))])
+    for person, row in list(sayings):
+        rest = [name for name in (others if person in ones else ones) if name not in row]
+        if rest:
+            sayings.append((person, ("",) + tuple(rest)))
+    return Book(text_of(ones, others, sayings))
 
 
 def with_chance(book, seed, sayings=8):
@@ -161,6 +249,16 @@ def chance_lists(book, seed):
     """Lists of a book of few people, by a seed."""
     chance = random.Random(seed)
     return tuple(chance.choice(lists_of(book, person)) for person in book.ones + book.others)
+
+
+class PairCase(unittest.TestCase):
+
+    def refused(self, error, value, call, *args, **more):
+        """The call raises this error with this very value."""
+        with self.assertRaises(PairError) as held:
+            call(*args, **more)
+        self.assertIs(held.exception.__class__, error)
+        self.assertIs(held.exception.value, value)
 
 
 def kinds(value):

@@ -1,4 +1,4 @@
-"""The examples of points 4 and 5, as they stand in the document."""
+"""The examples of points 4 to 7, as they stand in the document."""
 
 import doctest
 import unittest
@@ -19,6 +19,19 @@ EXAMPLES = r"""
 >>> lists = (nth(book, 'ann', 0), nth(book, 'bea', 0), nth(book, 'cy', 0), nth(book, 'dan', 0))
 >>> [lists[1:3], usual(book, lists), leaving(book, lists, (('ann', 'dan'), ('bea', 'cy')))]
 [(('cy', 'dan', ''), ('ann', 'bea', '')), (('ann', 'cy'), ('bea', 'dan')), (('ann', 'cy'),)]
+
+>>> from factpairs.judging import judged
+>>> from factpairs.pairings import Pairing
+>>> pairing = Pairing(book, (('ann', 'cy'), ('bea', 'dan')))
+>>> [pairing['dan'], pairing.alone, judged(pairing)[0], judged(pairing)[3], judged(pairing.on(more)), judged(Pairing(book, ()))[0]]
+['bea', (), 'open', ('bea', 'cy'), ('sure',), 'never']
+
+>>> from factpairs.striking import shows_steadied, steadied, unstruck
+>>> [steadied(book)[0], steadied(more)[1].pairs, unstruck(more)[0]]
+['none', (('ann', 'cy'), ('bea', 'dan')), ('cy',)]
+>>> strikes = (('cy', 'ann', 'bea'), ('cy', 'bea', 'ann'), ('cy', '', 'ann'))
+>>> [shows_steadied(book, ('none', strikes)), shows_steadied(book, ('none', strikes[:2])), steadied(more, barred=(('ann', 'cy'),))[0]]
+[True, False, 'none']
 """
 
 
@@ -30,7 +43,7 @@ class ExamplesTest(unittest.TestCase):
         told = []
         result = runner.run(test, out=told.append)
         self.assertEqual((result.failed, "".join(told)), (0, ""))
-        self.assertEqual(result.attempted, 10)
+        self.assertEqual(result.attempted, 18)
 
 
 if __name__ == "__main__":

@@ -111,6 +111,21 @@ class LanguageTest(unittest.TestCase):
     def test_quantors_take_lists(self):
         self.assertEqual(nodes(ast.GeneratorExp), [])
 
+    def test_names_of_imports_and_classes_mean_nothing_else(self):
+        for name, _, tree in files():
+            bound = [alias.name for node in ast.walk(tree) if isinstance(node, ast.ImportFrom) for alias in node.names]
+            bound.extend(node.name for node in tree.body if isinstance(node, (ast.ClassDef, ast.FunctionDef)))
+            self.assertEqual(len(set(bound)), len(bound), name)
+            local = {node.arg for node in ast.walk(tree) if isinstance(node, ast.arg)}
+            local.update(node.id for node in ast.walk(tree) if isinstance(node, ast.Name) and not isinstance(node.ctx, ast.Load))
+            self.assertEqual(local & set(bound), set(), name)
+
+    def test_methods_are_no_attributes(self):
+        assigned = {node.attr for _, node in nodes(ast.Attribute) if isinstance(node.ctx, ast.Store)}
+        for name, node in nodes(ast.ClassDef):
+            methods = {part.name for part in node.body if isinstance(part, ast.FunctionDef)}
+            self.assertEqual(methods & assigned, set(), (name, node.name))
+
     def test_classes_that_are_indexed_are_not_gone_over(self):
         for name, node in nodes(ast.ClassDef):
             methods = [part.name for part in node.body if isinstance(part, ast.FunctionDef)]

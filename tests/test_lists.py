@@ -5,9 +5,9 @@ from itertools import product
 
 from factpairs import lists as module
 from factpairs.books import Book
-from factpairs.errors import BadLists, BadPairs, NoList, NoPerson, PairError
+from factpairs.errors import BadLists, BadPairs, NoList, NoPerson
 from factpairs.lists import are_lists, how_many, is_list, leaving, nth, usual
-from tests.helpers import (TEXT, TWELVE_ONES, TWELVE_OTHERS, any_values, chance_book, chance_lists, kinds, large,
+from tests.helpers import (TEXT, PairCase, TWELVE_ONES, TWELVE_OTHERS, any_values, chance_book, chance_lists, kinds, large,
                            leavers, lists_of, pairings, partner, steady, text_of, with_chance)
 
 FACTORIAL_13 = 6227020800
@@ -18,17 +18,7 @@ def first_lists(book):
     return tuple(nth(book, person, 0) for person in book.persons)
 
 
-class ListsCase(unittest.TestCase):
-
-    def refused(self, error, value, call, *args, **more):
-        """The call raises this error with this very value."""
-        with self.assertRaises(PairError) as held:
-            call(*args, **more)
-        self.assertIs(held.exception.__class__, error)
-        self.assertIs(held.exception.value, value)
-
-
-class IsListTest(ListsCase):
+class IsListTest(PairCase):
 
     def setUp(self):
         self.book = Book(TEXT)
@@ -106,7 +96,7 @@ class IsListTest(ListsCase):
             self.assertIs(are_lists(self.book, rows[:3] + (value,)), False)
 
 
-class CountingTest(ListsCase):
+class CountingTest(PairCase):
 
     def test_against_all_lists(self):
         for seed in range(100):
@@ -185,7 +175,7 @@ class CountingTest(ListsCase):
         self.assertEqual([nth(book, "bea", 0), nth(book, "bea", 1)], [("cy", "dan", ""), ("dan", "cy", "")])
 
 
-class LeavingTest(ListsCase):
+class LeavingTest(PairCase):
 
     def test_against_a_going_through_of_all(self):
         for seed in range(60):
@@ -247,7 +237,7 @@ class LeavingTest(ListsCase):
             self.refused(BadLists, value, usual, book, value)
 
 
-class UsualTest(ListsCase):
+class UsualTest(PairCase):
 
     def best(self, book, rows):
         """The one steady pairing in which each of the ones has the best of all that they have in some."""
@@ -327,7 +317,7 @@ class UsualTest(ListsCase):
         self.assertEqual(usual(~book, rows[1:] + rows[:1]), (("w", "a"),))
 
 
-class ConventionsTest(ListsCase):
+class ConventionsTest(PairCase):
 
     def setUp(self):
         self.book = Book(TEXT)
