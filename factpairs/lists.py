@@ -1,8 +1,9 @@
 """Lists that keep a book, and what comes of pairings by them."""
 
 from factpairs.books import refuse_no_person
+from factpairs.counting import ways
 from factpairs.errors import BadLists, BadPairs, NoList
-from factpairs.orders import keeps
+from factpairs.orders import all_spots, first_spots, keeps
 from factpairs.pairs import are_pairs, pairs_of, partners_of
 from factpairs.texts import is_row, spots_of
 from factpairs.values import is_number_below
@@ -26,54 +27,34 @@ def are_lists(book, value):
 def how_many(book, person):
     """How many lists of this person keep the book."""
     refuse_no_person(book, person)
-    return ways_to_end(book.orders[person])[0]
+    order = book.orders[person]
+    return ways(order, all_spots(order), {})
 
 
 def nth(book, person, number):
     """The list with this number of this person: NoList."""
     choices = book[person]
     order = book.orders[person]
-    ways = ways_to_end(order)
-    if not is_number_below(number, ways[0]):
+    rest = all_spots(order)
+    known = {}
+    if not is_number_below(number, ways(order, rest, known)):
         raise NoList(number)
     row = []
-    stood = 0
-    while len(row) < len(choices):
-        at, number = next_spot(order, ways, stood, number)
+    while rest != 0:
+        at, number = next_spot(order, rest, number, known)
         row.append(choices[at])
-        stood = stood | 1 << at
+        rest = rest & ~(1 << at)
     return tuple(row)
 
 
-def next_spot(order, ways, stood, number):
-    """(spot, number): what follows in the list with this number, and its number among those that go on so."""
-    spots = free_spots(order, stood)
+def next_spot(order, rest, number, known):
+    """(spot, number): what comes next in the list with this number, and its number among those that go on so."""
+    spots = first_spots(order, rest)
     at = 0
-    while number >= ways[stood | 1 << spots[at]]:
-        number = number - ways[stood | 1 << spots[at]]
+    while number >= ways(order, rest & ~(1 << spots[at]), known):
+        number = number - ways(order, rest & ~(1 << spots[at]), known)
         at += 1
     return spots[at], number
-
-
-def free_spots(order, stood):
-    """The spots that can stand next, ascending, behind those of this mask."""
-    spots = list(range(len(order)))
-    return [at for at in spots if stood >> at & 1 == 0 and order[at] | stood == stood]
-
-
-def ways_to_end(order):
-    """For each mask of spots that can stand first, in how many sequences the others can follow them."""
-    # The lists of thirteen choices may be too many to be gone through, but there are no more than 8192 such masks.
-    longer = {}
-    layer = [0]
-    while layer:
-        for stood in layer:
-            longer[stood] = [stood | 1 << at for at in free_spots(order, stood)]
-        layer = list({mask: True for shorter in layer for mask in longer[shorter]})
-    ways = {}
-    for stood, masks in list(longer.items())[::-1]:
-        ways[stood] = sum([ways[mask] for mask in masks]) if masks else 1
-    return ways
 
 
 def leaving(book, lists, pairs):

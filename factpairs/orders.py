@@ -11,6 +11,11 @@ def empty_order(many):
     return (0,) * many
 
 
+def all_spots(order):
+    """The mask of all choices."""
+    return (1 << len(order)) - 1
+
+
 def is_ahead(order, first, second):
     """Whether the choice at `first` surely stands ahead of the one at `second`."""
     return order[second] >> first & 1 == 1
@@ -61,6 +66,19 @@ def some_row(order):
     many = [len(spots_in(mask)) for mask in order]
     spots = list(range(len(order)))
     return [at for ahead in spots for at in spots if many[at] == ahead]
+
+
+def first_spots(order, rest):
+    """The spots of this mask that none of it is surely ahead of, ascending: those that can stand first of them."""
+    return [at for at in spots_in(rest) if order[at] & rest == 0]
+
+
+def last_spots(order, rest):
+    """The spots of this mask that are surely ahead of none of it, ascending: those that can stand last of them."""
+    ahead = 0
+    for at in spots_in(rest):
+        ahead = ahead | order[at]
+    return spots_in(rest & ~ahead)
 
 
 def shared(order, other):

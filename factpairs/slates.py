@@ -1,6 +1,6 @@
 """What is left to people while choices are struck, one by one."""
 
-from factpairs.orders import spots_in
+from factpairs.orders import all_spots, spots_in
 
 
 class Slate:
@@ -12,7 +12,7 @@ class Slate:
 
     def __init__(self, book):
         self.book = book
-        self.left = {person: (1 << len(book.choices[person])) - 1 for person in book.persons}
+        self.left = {person: all_spots(order) for person, order in book.orders.items()}
         self.spots = {}
         for side in (book.ones, book.others):
             for at, person in enumerate(side):
