@@ -1,7 +1,8 @@
 """Books of what people say they would rather."""
 
 from factpairs.errors import BadChoice, BadRow, Full, NoPerson, NoSaying, OtherPeople, Round
-from factpairs.orders import is_ahead, is_within, nearest, shared, spots_behind, spots_in, with_row
+from factpairs.knowing import surely
+from factpairs.orders import is_within, nearest, shared, spots_behind, spots_in, with_row
 from factpairs.texts import MOST_SAYINGS, choices_of, is_row, lines_of, read_sayings, read_side, spots_of, text_of
 from factpairs.values import is_number_below
 
@@ -42,9 +43,7 @@ class Book:
         if person not in self.persons:
             return False
         choices = self.choices[person]
-        if first not in choices or second not in choices:
-            return False
-        return is_ahead(self.orders[person], choices.index(first), choices.index(second))
+        return first in choices and second in choices and surely(self, person, first, second)
 
     def __or__(self, other):
         if not isinstance(other, Book):

@@ -1,19 +1,19 @@
 """Whether a pairing is steady by all lists of its book, by some, or by none."""
 
+from factpairs.knowing import surely
 from factpairs.lists import are_lists, leavers, leaving
 from factpairs.orders import some_row
 
 
 def judged(pairing):
     """What is sure of a pairing: ("sure",), ("open", lists, others, who) or ("never", who)."""
-    surely, perhaps = surely_liked(pairing), perhaps_liked(pairing)
-    never = leavers(pairing.book, surely)
-    doubted = leavers(pairing.book, perhaps)
+    never = refusing(pairing.book, pairing.partners)
+    leave = doubted(pairing.book, pairing.partners)
     if never:
         return ("never", never[0])
-    if not doubted:
+    if not leave:
         return ("sure",)
-    return ("open", lists_with(pairing, surely), lists_with(pairing, perhaps), doubted[0])
+    return ("open", lists_with(pairing, surely_liked), lists_with(pairing, perhaps_liked), leave[0])
 
 
 def shows_judged(pairing, value):
@@ -23,7 +23,7 @@ def shows_judged(pairing, value):
     if len(value) == 1:
         return value[0] == "sure" and is_sure(pairing)
     if len(value) == 2:
-        return value[0] == "never" and value[1] in leavers(pairing.book, surely_liked(pairing))
+        return value[0] == "never" and value[1] in refusing(pairing.book, pairing.partners)
     return len(value) == 4 and value[0] == "open" and shows_open(pairing, value[1], value[2], value[3])
 
 
@@ -37,35 +37,39 @@ def shows_open(pairing, lists, others, who):
 
 def is_sure(pairing):
     """Whether a pairing is surely steady."""
-    return leavers(pairing.book, perhaps_liked(pairing)) == ()
+    return doubted(pairing.book, pairing.partners) == ()
 
 
-def surely_liked(pairing):
-    """A dict of the choices that each person surely would rather have than whom they have."""
-    book = pairing.book
-    return {person: book.ahead(person, pairing[person]) for person in book.persons}
+def refusing(known, partners):
+    """Those who surely leave a pairing, by a Book or a Known."""
+    return leavers(known, {person: surely_liked(known, person, partners[person]) for person in known.persons})
 
 
-def perhaps_liked(pairing):
-    """A dict of the choices than which each person does not surely rather have whom they have."""
-    book = pairing.book
-    liked = {}
-    for person in book.persons:
-        held = pairing[person]
-        liked[person] = [choice for choice in book[person]
-                         if choice != held and (person, held, choice) not in book]
-    return liked
+def doubted(known, partners):
+    """Those of whom it is not sure that they do not leave a pairing, by a Book or a Known."""
+    return leavers(known, {person: perhaps_liked(known, person, partners[person]) for person in known.persons})
+
+
+def surely_liked(known, person, held):
+    """The choices that this person surely would rather have than the one they have."""
+    return [choice for choice in known.choices[person] if surely(known, person, choice, held)]
+
+
+def perhaps_liked(known, person, held):
+    """The choices than which this person does not surely rather have the one they have."""
+    return [choice for choice in known.choices[person] if choice != held and not surely(known, person, held, choice)]
 
 
 def lists_with(pairing, liked):
-    """Lists in which each person has just those ahead of whom they have that `liked` tells."""
-    # They keep the book if `liked` tells all who surely are ahead of whom they have, and none who surely is behind.
+    """Lists in which each person has just those ahead of whom they have that the function `liked` tells."""
+    # They keep the book if it tells all who surely are ahead of whom they have, and none who surely is behind.
     book = pairing.book
     lists = []
     for person in book.persons:
         held = pairing[person]
         row = [book[person][at] for at in some_row(book.orders[person])]
-        ahead = [choice for choice in row if choice in liked[person]]
-        behind = [choice for choice in row if choice != held and choice not in liked[person]]
+        told = liked(book, person, held)
+        ahead = [choice for choice in row if choice in told]
+        behind = [choice for choice in row if choice != held and choice not in told]
         lists.append((*ahead, held, *behind))
     return tuple(lists)

@@ -102,3 +102,8 @@ def is_next(order, first, second):
     if not is_ahead(order, first, second):
         return False
     return not any([is_ahead(order, first, spot) for spot in spots_in(order[second])])
+
+
+def with_bit(order, first, second):
+    """The order with the bit alone by which `first` stands ahead of `second`; what follows is not in it."""
+    return tuple([mask | 1 << first if at == second else mask for at, mask in enumerate(order)])

@@ -32,5 +32,20 @@ def partners_of(persons, pairs):
 
 def pairs_of(ones, partners):
     """The pairs, ascending, of the ones with whom a dict tells that they have: "" for nobody."""
-    names = sorted([str(one) for one in ones if partners[one] != ""])
-    return tuple([(name, partners[name]) for name in names])
+    return ascending([(one, partners[one]) for one in ones if partners[one] != ""])
+
+
+def ascending(pairs):
+    """The tuple of these unlike pairs, ascending."""
+    return tuple(sorted_by_words({words_of(pair): pair for pair in pairs}))
+
+
+def words_of(names):
+    """A string for a row of names, such that strings ascend as the rows do."""
+    # A blank is ahead of all letters, so a name stands ahead of all longer ones that begin with it.
+    return " ".join(names)
+
+
+def sorted_by_words(told):
+    """The values of a dict of strings, by these."""
+    return [told[words] for words in sorted([str(words) for words in told])]

@@ -2,15 +2,14 @@
 
 from factpairs.errors import BadBarred, BadBound, BadSide
 from factpairs.pairings import Pairing
-from factpairs.pairs import are_ascending_pairs, are_pairs, pairs_of, partners_of
-from factpairs.slates import first_slate, needed, strike_out
+from factpairs.pairs import are_ascending_pairs, are_pairs
+from factpairs.slates import best_pairs, first_slate, needed, strike_out, struck_out
 
 
 def unstruck(book, *, bound=(), barred=()):
     """The choices of each person that are not struck when no right strike is left: BadBound, BadBarred."""
     refuse_bound_or_barred(book, bound, barred)
-    slate = first_slate(book, bound, barred)
-    strike_out(slate)
+    slate = struck_out(book, bound, barred)
     return tuple([slate.choices_left(person) for person in book.persons])
 
 
@@ -22,7 +21,7 @@ def steadied(book, *, bound=(), barred=(), side="ones"):
     strikes = strike_out(slate)
     if slate.is_bare():
         return ("none", needed(first_slate(book, bound, barred), strikes))
-    return ("pairing", best_of(slate, side))
+    return ("pairing", Pairing(book, best_pairs(slate, side)))
 
 
 def shows_steadied(book, value, *, bound=(), barred=(), side="ones"):
@@ -49,22 +48,14 @@ def refuse_no_side(side):
         raise BadSide(side)
 
 
-def best_of(slate, side):
-    """The Pairing in which each person of this side has the best choice left, when no right strike is left."""
-    book = slate.book
-    best = [(person, slate.best(person)) for person in (book.ones if side == "ones" else book.others)]
-    partners = partners_of(book.persons, [(person, choice) for person, choice in best if choice != ""])
-    return Pairing(book, pairs_of(book.ones, partners))
-
-
-def is_strike(book, value):
+def is_strike(known, value):
     """Whether any value is a triple (person, choice, by) as strikes are, right or not."""
     if not isinstance(value, tuple) or len(value) != 3:
         return False
     person, choice, by = value
-    if person not in book.persons or choice not in book[person]:
+    if person not in known.persons or choice not in known.choices[person]:
         return False
-    return by != "" and by in book[person]
+    return by != "" and by in known.choices[person]
 
 
 def lead_to_none(slate, value):
@@ -72,7 +63,7 @@ def lead_to_none(slate, value):
     if not isinstance(value, tuple):
         return False
     for strike in value:
-        if not is_strike(slate.book, strike):
+        if not is_strike(slate.known, strike):
             return False
         person, choice, by = strike
         if not slate.is_right(person, choice, by):

@@ -213,6 +213,33 @@ def telling_book(seed, most=3):
     return Book(text_of(ones, others, sayings))
 
 
+def opened_book(seed, most, questions):
+    """A Book of up to so many people on a side who told all but what leaves so many questions open, or fewer."""
+    chance = random.Random(seed)
+    names = list("abcdefghijkl"[:chance.randint(2, most)]), list("mnopqrstuvwx"[:chance.randint(2, most)])
+    ones, others = [chance.sample(side, len(side)) for side in names]
+    rows = {}
+    for at, person in enumerate(ones + others):
+        row = others if person in ones else ones
+        at = (at if person in ones else at - len(ones) + 1) % len(row)
+        row = row[at:] + row[:at] if chance.random() < 0.75 else chance.sample(row, len(row))
+        place = len(row) - chance.choice([0] * 5 + [1, 2])
+        rows[person] = row[:place] + [""] + row[place:]
+    sayings = []
+    for person in chance.sample(ones + others, len(ones + others)):
+        row, width = rows[person], chance.choice([1, 2, 2, 2, 3, 3, 4])
+        if width > len(row) or width * (width - 1) // 2 > questions:
+            width = 1
+        questions -= width * (width - 1) // 2
+        at = chance.randrange(min(2, len(row) - width + 1))
+        # Of so many choices side by side the person does not tell which is ahead.
+        for choice in row[at:at + width]:
+            if len(row) > width:
+                sayings.append((person, tuple(row[:at] + [choice] + row[at + width:])))
+    chance.shuffle(sayings)
+    return Book(text_of(ones, others, sayings))
+
+
 def rings(many):
     """A Book of so many rings of two and two people, in each of whom two pairings are surely steady, and as many people.
 
@@ -228,6 +255,40 @@ def rings(many):
         rest = [name for name in (others if person in ones else ones) if name not in row]
         if rest:
             sayings.append((person, ("",) + tuple(rest)))
+    return Book(text_of(ones, others, sayings))
+
+
+# Groups of as many ones as others, by what each would rather: so many pairings are surely steady within each of them.
+GROUPS = {
+    1: (["0"], ["0"]),
+    2: (["01", "10"], ["10", "01"]),
+    3: (["012", "120", "201"], ["120", "201", "012"]),
+    4: (["0123", "1230", "2301", "3012"], ["1230", "2301", "3012", "0123"]),
+    6: (["1023", "1032", "2031", "3210"], ["3210", "2301", "1032", "0123"]),
+    7: (["0123", "1302", "2301", "3210"], ["3210", "2301", "1032", "0123"]),
+    8: (["0123", "1032", "2301", "3210"], ["2310", "2301", "1032", "0123"]),
+    10: (["0123", "1032", "2301", "3210"], ["3210", "2301", "1032", "0123"]),
+}
+
+
+def side_by_side(numbers, alone=0, seed=0):
+    """A Book of these groups, those of unlike ones not wanting one another, and of so many on a side who want nobody."""
+    chance = random.Random(seed)
+    ones, others, rows = [], [], {}
+    for letter, number in zip("abcdefghijkl", numbers):
+        first = [letter + "pqrs"[at] for at in range(len(GROUPS[number][0]))]
+        second = [letter + "wxyz"[at] for at in range(len(first))]
+        for persons, choices, told in ((first, second, GROUPS[number][0]), (second, first, GROUPS[number][1])):
+            rows.update({person: [choices[int(at)] for at in row] for person, row in zip(persons, told)})
+        ones, others = ones + first, others + second
+    ones, others = ones + ["m" + "abcdefghijkl"[at] for at in range(alone)], others + ["n" + "abcdefghijkl"[at] for at in range(alone)]
+    chance.shuffle(ones)
+    chance.shuffle(others)
+    sayings = []
+    for person in ones + others:
+        wanted = rows.get(person, [])
+        sayings.append((person, tuple(wanted + [""] + [name for name in (others if person in ones else ones) if name not in wanted])))
+    chance.shuffle(sayings)
     return Book(text_of(ones, others, sayings))
 
 
@@ -253,7 +314,7 @@ def chance_lists(book, seed):
 
 class PairCase(unittest.TestCase):
 
-    def refused(self, error, value, call, *args, **more):
+    def refused(self, error, value, call, /, *args, **more):
         """The call raises this error with this very value."""
         with self.assertRaises(PairError) as held:
             call(*args, **more)

@@ -1,4 +1,4 @@
-"""The examples of points 4 to 7, as they stand in the document."""
+"""The examples of points 4 to 10, as they stand in the document."""
 
 import doctest
 import unittest
@@ -32,6 +32,22 @@ EXAMPLES = r"""
 >>> strikes = (('cy', 'ann', 'bea'), ('cy', 'bea', 'ann'), ('cy', '', 'ann'))
 >>> [shows_steadied(book, ('none', strikes)), shows_steadied(book, ('none', strikes[:2])), steadied(more, barred=(('ann', 'cy'),))[0]]
 [True, False, 'none']
+
+>>> from factpairs.every import always, count, every, sometimes, steps
+>>> ring = Book('ones a b\nothers x y\na rather x y nobody\nb rather y x nobody\nx rather b a nobody\ny rather a b nobody')
+>>> [count(ring), always(ring), sometimes(ring) == (('a', 'x'), ('a', 'y'), ('b', 'x'), ('b', 'y')), steps(ring)[0].pairs]
+[2, (), True, (('a', 'y'), ('b', 'x'))]
+>>> best, worst = every(ring)
+>>> [best.pairs, (best | worst) == best, (best & worst) == worst, worst <= best]
+[(('a', 'x'), ('b', 'y')), True, True, True]
+
+>>> from factpairs.speaking import bringing, doubts, speakers
+>>> [doubts(pairing), len(speakers(pairing)[1]), speakers(pairing)[2], bringing(book, 'bea'), bringing(book, 'cy'), bringing(book, 'ann')]
+[(('bea', 'cy'),), 1, (('bea', 'cy'),), (('dan', 'cy'),), (('ann', 'bea'),), ()]
+
+>>> from factpairs.asking import asks
+>>> [asks(more), asks(book)[0]]
+[(0, ('pairs', (('ann', 'cy'), ('bea', 'dan')))), 2]
 """
 
 
@@ -43,7 +59,7 @@ class ExamplesTest(unittest.TestCase):
         told = []
         result = runner.run(test, out=told.append)
         self.assertEqual((result.failed, "".join(told)), (0, ""))
-        self.assertEqual(result.attempted, 18)
+        self.assertEqual(result.attempted, 27)
 
 
 if __name__ == "__main__":
