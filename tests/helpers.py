@@ -8,7 +8,9 @@ import unittest
 from itertools import permutations
 
 from factpairs.books import Book
+from factpairs.desk import Desk
 from factpairs.errors import PairError
+from factpairs.halls import Hall
 from factpairs.pairings import Pairing
 
 TEXT = "\n".join([
@@ -59,6 +61,7 @@ def any_values():
         nested("ann", 30), nested(0, 30), nested({"a": ()}, 28),
         book, [book], (book, book), {"book": book}, PairError(1), (PairError("ann"), "cy"),
         Pairing(book, ()), (Pairing(book, (("ann", "cy"),)), "cy"), [Pairing(book, (("bea", "cy"),))],
+        Hall(book), (Hall(book), Hall(book)), {"hall": [Hall(book)]}, Desk(TEXT + "\nhall"), (Desk(TEXT + "\nhall"), "cy", 1),
     ]
 
 

@@ -10,7 +10,7 @@ from factpairs.errors import TooManyOpen
 from factpairs.pairings import Pairing
 from factpairs.striking import steadied
 from tests.helpers import (PairCase, TEXT, TWELVE_ONES, TWELVE_OTHERS, any_values, bent, choices_of, is_sure, kinds, large,
-                           opened_book, pairings, rings, side_by_side, sure, telling_book, text_of, turned_about)
+                           opened_book, pairings, rings, side_by_side, sure, text_of)
 
 
 def open_questions(book, known):

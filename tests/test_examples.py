@@ -1,4 +1,4 @@
-"""The examples of points 4 to 10, as they stand in the document."""
+"""The examples of points 4 to 13, as they stand in the document."""
 
 import doctest
 import unittest
@@ -48,6 +48,24 @@ EXAMPLES = r"""
 >>> from factpairs.asking import asks
 >>> [asks(more), asks(book)[0]]
 [(0, ('pairs', (('ann', 'cy'), ('bea', 'dan')))), 2]
+
+>>> from factpairs.choosing import cheapest
+>>> offers = (('bea', ('dan', 'cy'), 3), ('cy', ('ann', 'bea'), 2))
+>>> cheapest(book, offers, (('some',),))
+('choice', 2, (('cy', ('ann', 'bea'), 2),), (((), 0),))
+
+>>> from factpairs.halls import Hall
+>>> hall = Hall(book)
+>>> hall.unite('ann', 'dan')
+>>> hall.say('bea', ('dan', 'cy'))
+>>> [hall.word(), hall.settle(), hall['ann'], hall.word(), hall.done, hall.tried(len), len(hall)]
+['never', (('ann', 'cy'), ('bea', 'dan')), 'cy', 'sure', 3, 2, 2]
+
+>>> from factpairs.desk import Desk
+>>> from factpairs.journals import journal
+>>> desk = Desk(journal(hall))
+>>> [desk.say(line) for line in ('pairs', 'who bea', 'rather bea cy dan', 'undo', 'pairs', 'sure', 'unsay 7', 'sure', 'word')]
+['ann cy, bea dan', 'dan', 'second', 'ok', 'ann dan', '2', 'ok', 'none', 'never']
 """
 
 
@@ -59,7 +77,7 @@ class ExamplesTest(unittest.TestCase):
         told = []
         result = runner.run(test, out=told.append)
         self.assertEqual((result.failed, "".join(told)), (0, ""))
-        self.assertEqual(result.attempted, 27)
+        self.assertEqual(result.attempted, 39)
 
 
 if __name__ == "__main__":

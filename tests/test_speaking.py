@@ -6,7 +6,7 @@ from itertools import combinations
 
 from factpairs import speaking as module
 from factpairs.books import Book
-from factpairs.errors import NoPerson, NotSure, PairError
+from factpairs.errors import NoPerson, NotSure
 from factpairs.judging import judged
 from factpairs.pairings import Pairing
 from factpairs.speaking import bringing, doubts, shows_speakers, spare, speakers
