@@ -637,6 +637,39 @@ class TrialTest(HallCase):
         self.assertEqual([hall.done, hall["bea"]], [3, "cy"])
 
 
+    def go(self, hall, model, chance, deep):
+        """Deeds and blocks by chance, blocks up to so deep."""
+        for _ in range(chance.randint(3, 10)):
+            if deep == 0 or chance.random() < 0.8:
+                self.do(hall, model, *some_deed(model, chance))
+                continue
+            state, keep, failing = model.state(), chance.choice([None, "ahead", "behind"]), chance.random() < 0.3
+            try:
+                with hall.trial():
+                    if keep == "ahead":
+                        hall.keep()
+                    self.go(hall, model, chance, deep - 1)
+                    if keep == "behind":
+                        hall.keep()
+                    if failing:
+                        raise LookupError
+            except LookupError:
+                pass
+            if failing or keep is None:
+                model.restore(state)
+            self.alike(hall, model)
+
+    def test_blocks_by_chance(self):
+        for seed in range(80):
+            chance, book = random.Random(seed), telling_book(seed, 3)
+            hall, model = Hall(book), Model(book)
+            self.go(hall, model, chance, 3)
+            self.refused(NoTrial, None, hall.keep)
+            for step in ("undo", "redo"):
+                while self.do(hall, model, step, ()) is None:
+                    pass
+
+
 class TriedTest(HallCase):
 
     def test_not_kept(self):
