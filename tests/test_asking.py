@@ -193,13 +193,15 @@ class AsksTest(PairCase):
             self.refused(TooManyOpen, TooManyOpen(8).value, shows_asks, book=book, value=0)
 
     def test_with_sixty_sayings(self):
+        asked = 0
         for seed in range(25):
             book = opened_book(seed, 3, 4)
-            while len(book) < 60 and len(book):
-                book = book.said(*book.sayings[len(book) * 7 % len(book)])
-            if asks(book)[0]:
-                self.assertEqual(len(book), 60)
-                self.check(book)
+            few, sayings = asks(book), book.sayings
+            while len(book) < 60:
+                book = book.said(*sayings[len(book) % len(sayings)])
+            self.assertEqual(asks(book), few)
+            asked += self.check(book) > 0
+        self.assertGreater(asked, 10)
 
     def test_large_books(self):
         numbers = set()
