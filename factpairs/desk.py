@@ -2,7 +2,7 @@
 
 from factpairs.books import spot_of
 from factpairs.deeds import deed_in, do_deed
-from factpairs.errors import BadLine
+from factpairs.errors import BadChoice, BadLine
 from factpairs.journals import read_journal
 from factpairs.striking import steadied
 from factpairs.texts import choice_of, word_of
@@ -26,10 +26,13 @@ def answer_who(hall, told):
 
 
 def answer_rather(hall, told):
-    """Which of two choices a person surely would rather have."""
+    """Which of two choices a person surely would rather have: NoPerson, BadChoice."""
     person, first, second = told
     for choice in (first, second):
         spot_of(hall.book, person, choice)
+    # "open" would tell that more sayings can decide it, which they never do for one choice.
+    if first == second:
+        raise BadChoice(second)
     if (person, first, second) in hall.book:
         return "first"
     return "second" if (person, second, first) in hall.book else "open"

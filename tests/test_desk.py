@@ -104,8 +104,7 @@ class DeskTest(DeskCase):
     def test_rather(self):
         desk = Desk(HEAD)
         for words, answer in (("ann cy dan", "first"), ("ann dan cy", "second"), ("ann cy nobody", "first"), ("ann nobody dan", "second"),
-                              ("bea cy dan", "open"), ("bea dan cy", "open"), ("bea dan nobody", "first"), ("cy nobody bea", "second"),
-                              ("ann cy cy", "open"), ("ann nobody nobody", "open")):
+                              ("bea cy dan", "open"), ("bea dan cy", "open"), ("bea dan nobody", "first"), ("cy nobody bea", "second")):
             self.told(desk, "rather " + words, answer)
         for words, error, value in (("eve cy dan", NoPerson, "eve"), ("nobody cy dan", NoPerson, ""), ("eve x y", NoPerson, "eve"),
                                     ("ann bea cy", BadChoice, "bea"), ("ann cy bea", BadChoice, "bea"), ("ann x y", BadChoice, "x"),
@@ -115,15 +114,35 @@ class DeskTest(DeskCase):
         desk.say("say bea dan cy")
         self.told(desk, "rather bea cy dan", "second")
 
+    def test_rather_of_one_choice(self):
+        desk = Desk(HEAD + "\nunite ann cy")
+        for words, error, value in (("ann cy cy", BadChoice, "cy"), ("ann dan dan", BadChoice, "dan"), ("ann nobody nobody", BadChoice, ""),
+                                    ("bea dan dan", BadChoice, "dan"), ("bea nobody nobody", BadChoice, ""),
+                                    ("cy ann ann", BadChoice, "ann"), ("cy nobody nobody", BadChoice, ""),
+                                    ("ann eve eve", BadChoice, "eve"), ("ann ann ann", BadChoice, "ann"), ("cy dan dan", BadChoice, "dan"),
+                                    ("eve cy cy", NoPerson, "eve"), ("eve eve eve", NoPerson, "eve"), ("nobody cy cy", NoPerson, ""),
+                                    ("nobody nobody nobody", NoPerson, "")):
+            self.wrong(desk, "rather " + words, error, value)
+        # What was said since then changes nothing of it.
+        for line in ("say bea dan cy", "undo"):
+            desk.say(line)
+            self.wrong(desk, "rather bea cy cy", BadChoice, "cy")
+
     def test_rather_against_books(self):
         for seed in range(40):
             book = telling_book(seed, 3)
             desk, known = Desk(book.text + "\nhall"), sure(book)
             for person in book.persons:
-                for x in choices_of(book, person):
-                    for y in choices_of(book, person):
-                        answer = "first" if (person, x, y) in known else "second" if (person, y, x) in known else "open"
-                        self.told(desk, f"rather {person} {x or 'nobody'} {y or 'nobody'}", answer)
+                choices = choices_of(book, person)
+                for x in (*choices, person, "nothing"):
+                    for y in (*choices, person, "nothing"):
+                        line = f"rather {person} {x or 'nobody'} {y or 'nobody'}"
+                        refused = [choice for choice in (x, y) if choice not in choices] + [y] * (x == y)
+                        if refused:
+                            self.wrong(desk, line, BadChoice, refused[0])
+                        else:
+                            answer = "first" if (person, x, y) in known else "second" if (person, y, x) in known else "open"
+                            self.told(desk, line, answer)
 
     def test_word(self):
         desk = Desk(HEAD)
